@@ -1,0 +1,1 @@
+"""Linecourt: plain arguments in numbered lines, and a court that checks them."""
