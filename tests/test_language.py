@@ -7,6 +7,7 @@ import pathlib
 import re
 import tokenize
 import unittest
+import warnings
 
 PACKAGE = pathlib.Path(__file__).resolve().parent.parent / "linecourt"
 BUILTINS = set(
@@ -95,6 +96,12 @@ class Language(unittest.TestCase):
             text = path.read_text(encoding="utf-8")
             self.assertRegex(text, r"\A[\n -~]*\Z")
             self.assertIsNone(BARRED_WORDS.search(text), path.name)
+
+    def test_no_warnings(self):
+        with warnings.catch_warnings():
+            warnings.simplefilter("error")
+            for path in files():
+                compile(path.read_text(encoding="utf-8"), path.name, "exec")
 
     def test_sizes(self):
         for path in files():
