@@ -38,7 +38,7 @@ def names_differ(vocabulary, lines):
 
 def form_fits(argument, form, names):
     """Whether a form may stand in a line of an argument, the names being those of the line's openers."""
-    vocabulary, meanings, lines = argument
+    vocabulary, meanings = argument[:2]
     wide = with_words(vocabulary, names, [meaning[0] for meaning in meanings])
     if free_letters(form) or not is_of(wide, form) or catches_meaning(form, meanings):
         return False

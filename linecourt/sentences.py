@@ -106,6 +106,8 @@ def level_forms(level, vocabulary):
 
 def readings(vocabulary, text):
     """The closed forms of a vocabulary that a text can be read to, each once, by their texts."""
+    if not isinstance(text, str):
+        return ()
     levels = [Level(())]
     for word in text.split(" "):
         if word == "(":

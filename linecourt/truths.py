@@ -50,13 +50,17 @@ def reach_holds(sight, reach, places):
     """Whether a scope holds of every thing, or of some; each is found out once for the same things."""
     key = (reach, tuple([places[letter] for letter in reach.free]))
     if key not in sight.found:
-        wanted = reach.how == "every"
-        sight.found[key] = wanted
-        for thing in range(sight.many):
-            if scope_holds(sight, reach.inner, {**places, reach.letter: thing}) != wanted:
-                sight.found[key] = not wanted
-                break
+        sight.found[key] = new_reach_holds(sight, reach, places)
     return sight.found[key]
+
+
+def new_reach_holds(sight, reach, places):
+    """Whether a scope holds of every thing, or of some, where that has not been found out yet."""
+    wanted = reach.how == "every"
+    for thing in range(sight.many):
+        if scope_holds(sight, reach.inner, {**places, reach.letter: thing}) != wanted:
+            return not wanted
+    return wanted
 
 
 def thing_of(sight, term, places):

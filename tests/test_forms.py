@@ -291,6 +291,14 @@ class OfAVocabulary(unittest.TestCase):
                 lacking = swapped(needed, at, tuple(one for one in needed[at] if one != word))
                 self.assertIs(is_of(lacking, form), False, word)
 
+    def test_anything(self):
+        for thing in ODD_THINGS + ODD_TEXTS:
+            self.assertIs(is_of(self.FULL, thing), False)
+            self.assertIs(is_of(thing, TOM), False)
+            self.assertIs(is_of(self.FULL, ("not", thing)), False)
+        self.assertIs(is_of((("Tom", "Ann"), ("cat",), ()), TOM), False)
+        self.assertIs(is_of(self.FULL, ("is", "Tom", "cat", "dog")), False)
+
     def test_a_kind_is_no_doing(self):
         self.assertIs(is_of((("Tom",), ("sees",), ()), ("does", "sees", "Tom", "Tom")), False)
         self.assertIs(is_of((("Tom",), (), ("cat",)), TOM), False)

@@ -203,7 +203,7 @@ class SimpleSentences(Readings):
             self.check("( " + text + " )", ("least", one, other))
         for total in ("dog + cat", "cat + cat", "owl + dog + cat", "cat + owl + dog", "5 + cat", "cat + 0", "1 cat", "0 cat",
                       "cat + 05", "02 cat", "00", "05", "cat + 1 + 2", "cat dog", "2 3 cat", "cat 2", "+ cat", "cat +", "+",
-                      "cat + + dog", "", "Ann", "bee", "-1", "+1", "1_0", "cat+dog", "2cat", "( cat )", "x", "1 + 2",
+                      "cat + + dog", "", "Ann", "bee", "2 bee", "2 Ann", "cat + 2 sees", "2 2", "-1", "+1", "1_0", "cat+dog", "2cat", "( cat )", "x", "1 + 2",
                       "\u0661", "\u00b2", "\u00b2 cat", "cat + \u0661"):
             self.check(total + " >= 1")
             self.check("1 >= " + total)
@@ -459,6 +459,12 @@ class Refusals(unittest.TestCase):
         for text in ("", "Ann", "every cat", "Ann is a bee"):
             with self.assertRaises(NoSentence):
                 read_sentence(FULL, text)
+
+    def test_what_is_no_text(self):
+        for thing in (None, 7, True, (), ("absurd",), ["absurd"], b"absurd"):
+            self.assertEqual(readings(FULL, thing), ())
+            with self.assertRaises(NoSentence):
+                read_sentence(FULL, thing)
 
 
 class WrittenAndRead(unittest.TestCase):

@@ -126,6 +126,11 @@ class WhatIsAWorld(unittest.TestCase):
         ):
             self.assertIs(is_world(one, (3, (), (), (("sees", pairs),))), wanted, pairs)
 
+    def test_what_is_no_vocabulary_has_no_worlds(self):
+        for thing in ODD_THINGS + ODD_TEXTS + (((), ("cat",), ("cat",)), (("Bob", "Ann"), (), ()), ((), ())):
+            self.no_world((1, (), (), ()), thing)
+        self.no_world((1, (("Bob", 0), ("Ann", 0)), (), ()), (("Bob", "Ann"), (), ()))
+
     def test_anything(self):
         for thing in ODD_THINGS + ODD_TEXTS:
             self.no_world(thing)
@@ -199,6 +204,11 @@ class AllWorlds(unittest.TestCase):
             self.assertIs(type(told), int)
         self.assertEqual(how_many((("A", "B"), (), ()), 10 ** 12 - 1), (10 ** 12 - 1) ** 2)
         self.assertEqual(how_many(((), (), ()), 10 ** 12 - 1), 1)
+
+    def test_there_is_one_thing_at_least(self):
+        for vocabulary in (((), (), ()), ((), ("cat",), ()), FULL):
+            self.assertEqual(worlds_of(vocabulary, 0), ())
+            self.assertEqual(how_many(vocabulary, 0), 0)
 
     def test_just_above_4096_they_are_not_told(self):
         for vocabulary, size in ((((), ("cat",), ()), 13), ((("Ann",), (), ()), 4097), (((), (), ("sees",)), 4),
