@@ -18,6 +18,8 @@ SHAPES = {
     "some": "xF",
 }
 
+FALSE = ("false",)
+
 
 def is_share(thing):
     """Whether a thing is a part of a sum: a kind, and how often it counts."""
@@ -127,6 +129,11 @@ def put_at(place, piece, x, name):
     if place == "t" and piece == x:
         return name
     return piece
+
+
+def is_case(whole, word, name, case):
+    """Whether a form is every x F (or some x F, by the word), and the case of it F with the name for x."""
+    return whole[0] == word and is_name(name) and put_for(whole[2], whole[1], name) == case
 
 
 def is_row_of_names(thing):
