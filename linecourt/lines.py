@@ -45,11 +45,15 @@ def openers_at(lines, k):
     return all_openers(lines[:k])[-1]
 
 
+def is_open(openers, k, m):
+    """Whether line k is open to line m, by the openers of each line."""
+    return 1 <= m < k and all(i in openers[k - 1] for i in openers[m - 1])
+
+
 def open_to(lines, k):
     """The numbers of the lines to which line k is open, rising."""
     openers = all_openers(lines[:k])
-    own = openers[-1]
-    return tuple([m for m in range(1, k) if all(i in own for i in openers[m - 1])])
+    return tuple([m for m in range(1, k) if is_open(openers, k, m)])
 
 
 def told_by(lines, i, k):

@@ -88,3 +88,29 @@ def is_reason(thing, last):
     if not all(fits_reason(place, piece, last) for place, piece in zip(shape, thing[1:])):
         return False
     return thing[0] != "sums" or len(thing[1]) == len(thing[2])
+
+
+def numbers_in(reason):
+    """The numbers of lines that a reason names, in order."""
+    told = []
+    for place, piece in zip(REASONS[reason[0]], reason[1:]):
+        if place == "k":
+            told.append(piece)
+        elif place in ("K", "B"):
+            told.extend(piece)
+    return told
+
+
+def moved_at(place, piece, numbers):
+    """What stands at a place of a reason, the lines having new numbers."""
+    if place == "k":
+        return numbers[piece - 1]
+    if place in ("K", "B"):
+        return tuple([numbers[m - 1] for m in piece])
+    return piece
+
+
+def moved(reason, numbers):
+    """The reason, the lines that it names having new numbers: that of line 1 first, and so on."""
+    put = [moved_at(place, piece, numbers) for place, piece in zip(REASONS[reason[0]], reason[1:])]
+    return (reason[0], *put)

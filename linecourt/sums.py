@@ -18,10 +18,7 @@ def sum_of_kind(kind):
 
 
 def so_often(total, often):
-    """A sum so many times."""
-    # A kind that counts no time is no part of a sum.
-    if often == 0:
-        return ((), 0)
+    """The parts and the number of a sum, so many times; of no time it is a sum but for its times of 0."""
     parts, number = total
     return (tuple([(kind, times * often) for kind, times in parts]), number * often)
 

@@ -28,6 +28,13 @@ def holds(world, form):
     return scope_holds(Sight(world), scope_of(form, True), {})
 
 
+def things_of(world, x, form):
+    """The things of a world of which a form holds, x being its free letter, if it has one; rising."""
+    sight = Sight(world)
+    scope = scope_of(form, True)
+    return tuple([thing for thing in range(sight.many) if scope_holds(sight, scope, {x: thing})])
+
+
 def scope_holds(sight, scope, places):
     """Whether a scope holds, where its free letters stand for the things at their places."""
     if isinstance(scope, Fact):

@@ -121,6 +121,18 @@ def is_closed_small(forms):
     return not any(free(form) for form in forms) and not any(word in repr(forms) for word in ("Cat", "cow", "likes"))
 
 
+def given(form):
+    return (0, form, ("given",))
+
+
+def supposed(level, form):
+    return (level, form, ("supposed",))
+
+
+def clearly(level, form):
+    return (level, form, ("clearly",))
+
+
 class Worlds:
     """All worlds of one and of two things of a vocabulary, asked all at once: one bit for each world."""
 

@@ -1,5 +1,6 @@
 """A slow court of the tests' own, from the words of the document: by written texts, and by making all that may follow."""
 
+import functools
 import itertools
 
 from linecourt.formtexts import show_form
@@ -18,6 +19,7 @@ MANY = {
 }
 
 
+@functools.lru_cache(maxsize=100000)
 def text(form):
     return show_form(form)
 

@@ -6,7 +6,7 @@ import unittest
 
 from linecourt.arguments import is_argument
 from linecourt.boxrules import boxed
-from tests.making import FALSE, SMALL
+from tests.making import FALSE, SMALL, clearly, given, supposed
 from tests.slowcourt import slow_boxed
 
 VOCABULARY = (("Ann", "Bob"), ("cat", "dog"), ("sees",))
@@ -17,22 +17,9 @@ ZED, ZED_CAT = ("same", "Zed", "Zed"), ("is", "Zed", "cat")
 OR = ("or", CAT, DOG)
 
 
-def given(form):
-    return (0, form, ("given",))
-
-
-def supposed(level, form):
-    return (level, form, ("supposed",))
-
-
-def step(level, form):
-    """A line whose reason is looked at by none of these tests."""
-    return (level, form, ("clearly",))
-
-
 class Asking(unittest.TestCase):
     def told(self, lines, k):
-        argument = (VOCABULARY, (), tuple(lines) + ((step(0, CAT),) if lines[-1][0] else ()))
+        argument = (VOCABULARY, (), tuple(lines) + ((clearly(0, CAT),) if lines[-1][0] else ()))
         self.assertTrue(is_argument(argument), lines)
         told = boxed(argument, k)
         self.assertIs(told, slow_boxed(argument, k), (lines, k))
@@ -74,15 +61,15 @@ class Openers(Asking):
             self.no(given(("some", "x", LOOK)), (1, ("does", "sees", one, other), ("called", "Zed", 1)))
 
     def test_called_by_a_line_to_which_it_is_not_open(self):
-        self.no(supposed(1, SOME_CAT), step(1, CAT), (1, ZED_CAT, ("called", "Zed", 1)))
-        self.no(supposed(1, SOME_CAT), step(0, CAT), (1, ZED_CAT, ("called", "Zed", 1)))
-        self.no((1, ZED_CAT, ("called", "Zed", 2)), step(0, SOME_CAT), k=1)
+        self.no(supposed(1, SOME_CAT), clearly(1, CAT), (1, ZED_CAT, ("called", "Zed", 1)))
+        self.no(supposed(1, SOME_CAT), clearly(0, CAT), (1, ZED_CAT, ("called", "Zed", 1)))
+        self.no((1, ZED_CAT, ("called", "Zed", 2)), clearly(0, SOME_CAT), k=1)
         self.no((1, SOME_CAT, ("called", "Zed", 1)))
 
     def test_other_reasons(self):
         self.assertIs(boxed((VOCABULARY, (), (given(CAT),)), 1), False)
         self.assertIs(boxed((VOCABULARY, (), (given(CAT), (0, CAT, ("again", 1)))), 2), False)
-        self.assertIs(boxed((VOCABULARY, (), (step(0, CAT),)), 1), False)
+        self.assertIs(boxed((VOCABULARY, (), (clearly(0, CAT),)), 1), False)
 
 
 # For each word: what opens the box, what the box tells, the form that follows, and forms that don't.
@@ -107,31 +94,31 @@ class Boxes(Asking):
 
     def test_right(self):
         for word, opener, told, wanted, _ in self.each():
-            self.yes(given(SOME_CAT), opener(1), step(1, told), (0, wanted, (word, 2)))
-            self.yes(given(SOME_CAT), opener(1), step(1, CAT), step(1, told), (0, wanted, (word, 2)))
-            self.yes(given(SOME_CAT), supposed(1, BOB), opener(2), step(2, told), (1, wanted, (word, 3)))
-            self.yes(given(SOME_CAT), opener(1), supposed(2, BOB), step(2, BOB), step(1, told), (0, wanted, (word, 2)))
+            self.yes(given(SOME_CAT), opener(1), clearly(1, told), (0, wanted, (word, 2)))
+            self.yes(given(SOME_CAT), opener(1), clearly(1, CAT), clearly(1, told), (0, wanted, (word, 2)))
+            self.yes(given(SOME_CAT), supposed(1, BOB), opener(2), clearly(2, told), (1, wanted, (word, 3)))
+            self.yes(given(SOME_CAT), opener(1), supposed(2, BOB), clearly(2, BOB), clearly(1, told), (0, wanted, (word, 2)))
 
     def test_behind_other_lines(self):
         for word, opener, told, wanted, _ in self.each():
-            start = (given(SOME_CAT), opener(1), step(1, told))
+            start = (given(SOME_CAT), opener(1), clearly(1, told))
             line = (0, wanted, (word, 2))
-            self.yes(*start, step(0, CAT), line)
+            self.yes(*start, clearly(0, CAT), line)
             self.yes(*start, supposed(1, BOB), line)
-            self.yes(*start, supposed(1, BOB), step(1, CAT), step(0, CAT), line)
-            self.yes(*start, supposed(1, BOB), (1, wanted, (word, 2)), step(0, BOB), line)
+            self.yes(*start, supposed(1, BOB), clearly(1, CAT), clearly(0, CAT), line)
+            self.yes(*start, supposed(1, BOB), (1, wanted, (word, 2)), clearly(0, BOB), line)
             self.yes(*start, line, line)
 
     def test_another_form(self):
         for word, opener, told, wanted, others in self.each():
             for form in others:
-                self.no(given(SOME_CAT), opener(1), step(1, told), (0, form, (word, 2)))
+                self.no(given(SOME_CAT), opener(1), clearly(1, told), (0, form, (word, 2)))
 
     def test_another_form_told(self):
         for word, opener, told, wanted, _ in self.each():
             for form in (BOB, ("not", told), SOME_CAT):
-                self.no(given(SOME_CAT), opener(1), step(1, told), step(1, form), (0, wanted, (word, 2)))
-                self.no(given(SOME_CAT), opener(1), step(1, form), (0, wanted, (word, 2)))
+                self.no(given(SOME_CAT), opener(1), clearly(1, told), clearly(1, form), (0, wanted, (word, 2)))
+                self.no(given(SOME_CAT), opener(1), clearly(1, form), (0, wanted, (word, 2)))
 
     def test_an_opener_of_another_word(self):
         for word, own, form, told, wanted in (
@@ -140,37 +127,37 @@ class Boxes(Asking):
             ("forany", ("any", "Zed"), CAT, DOG, ("every", "x", DOG)),
         ):
             for reason in (("supposed",), ("any", "Zed"), ("called", "Zed", 1)):
-                told_so = self.told((given(SOME_CAT), (1, form, reason), step(1, told), (0, wanted, (word, 2))), 4)
+                told_so = self.told((given(SOME_CAT), (1, form, reason), clearly(1, told), (0, wanted, (word, 2))), 4)
                 self.assertIs(told_so, reason == own)
 
     def test_what_is_no_opener(self):
         for word, opener, told, wanted, _ in self.each():
             self.no(given(SOME_CAT), given(CAT), (0, wanted, (word, 2)))
-            self.no(given(SOME_CAT), opener(1), step(1, told), (0, wanted, (word, 3)))
-            self.no(given(SOME_CAT), opener(1), step(1, told), (0, wanted, (word, 1)))
-            self.no(given(SOME_CAT), opener(1), step(1, told), (0, wanted, (word, 4)))
+            self.no(given(SOME_CAT), opener(1), clearly(1, told), (0, wanted, (word, 3)))
+            self.no(given(SOME_CAT), opener(1), clearly(1, told), (0, wanted, (word, 1)))
+            self.no(given(SOME_CAT), opener(1), clearly(1, told), (0, wanted, (word, 4)))
 
     def test_a_box_one_level_too_deep(self):
         for word, opener, told, wanted, _ in self.each():
-            self.no(given(SOME_CAT), supposed(1, BOB), opener(2), step(2, told), (0, wanted, (word, 3)))
-            self.no(given(SOME_CAT), supposed(1, BOB), opener(2), step(2, told), step(1, CAT), (0, wanted, (word, 3)))
-            self.no(given(SOME_CAT), opener(1), supposed(2, BOB), step(2, told), (0, wanted, (word, 2)))
+            self.no(given(SOME_CAT), supposed(1, BOB), opener(2), clearly(2, told), (0, wanted, (word, 3)))
+            self.no(given(SOME_CAT), supposed(1, BOB), opener(2), clearly(2, told), clearly(1, CAT), (0, wanted, (word, 3)))
+            self.no(given(SOME_CAT), opener(1), supposed(2, BOB), clearly(2, told), (0, wanted, (word, 2)))
 
     def test_a_box_that_is_not_done(self):
         for word, opener, told, wanted, _ in self.each():
-            within = given(SOME_CAT), opener(1), step(1, told), (1, wanted, (word, 2))
+            within = given(SOME_CAT), opener(1), clearly(1, told), (1, wanted, (word, 2))
             self.no(*within)
-            self.no(given(SOME_CAT), opener(1), step(1, told), supposed(2, BOB), (1, wanted, (word, 2)))
+            self.no(given(SOME_CAT), opener(1), clearly(1, told), supposed(2, BOB), (1, wanted, (word, 2)))
             # Behind the end of the box around it.
-            self.no(given(SOME_CAT), supposed(1, BOB), opener(2), step(2, told), step(0, CAT), (0, wanted, (word, 3)))
+            self.no(given(SOME_CAT), supposed(1, BOB), opener(2), clearly(2, told), clearly(0, CAT), (0, wanted, (word, 3)))
             self.no(
-                given(SOME_CAT), supposed(1, BOB), opener(2), step(2, told), supposed(1, BOB), (1, wanted, (word, 3)))
+                given(SOME_CAT), supposed(1, BOB), opener(2), clearly(2, told), supposed(1, BOB), (1, wanted, (word, 3)))
             # Ahead of the box.
-            self.no(given(SOME_CAT), (0, wanted, (word, 3)), opener(1), step(1, told), step(0, CAT), k=2)
+            self.no(given(SOME_CAT), (0, wanted, (word, 3)), opener(1), clearly(1, told), clearly(0, CAT), k=2)
 
     def test_the_box_ends_in_a_deeper_line(self):
         for word, opener, told, wanted, _ in self.each():
-            self.no(given(SOME_CAT), opener(1), step(1, told), supposed(2, told), (0, wanted, (word, 2)))
+            self.no(given(SOME_CAT), opener(1), clearly(1, told), supposed(2, told), (0, wanted, (word, 2)))
 
     def test_the_opener_alone(self):
         self.yes(supposed(1, CAT), (0, ("if", CAT, CAT), ("soif", 1)))
@@ -180,23 +167,23 @@ class Boxes(Asking):
         self.no(supposed(1, ("not", FALSE)), (0, FALSE, ("contrary", 1)))
 
     def test_forany_and_letters(self):
-        start = ((1, ZED, ("any", "Zed")), step(1, ("every", "x", ("does", "sees", "Zed", "x"))))
+        start = ((1, ZED, ("any", "Zed")), clearly(1, ("every", "x", ("does", "sees", "Zed", "x"))))
         self.yes(*start, (0, ("every", "y", ("every", "x", ("does", "sees", "y", "x"))), ("forany", 1)))
         self.no(*start, (0, ("every", "x", ("every", "x", ("does", "sees", "x", "x"))), ("forany", 1)))
-        self.yes((1, ZED, ("any", "Zed")), step(1, CAT), (0, ("every", "z9", CAT), ("forany", 1)))
+        self.yes((1, ZED, ("any", "Zed")), clearly(1, CAT), (0, ("every", "z9", CAT), ("forany", 1)))
 
 
 class Cases(Asking):
-    START = (given(OR), supposed(1, CAT), step(1, BOB), supposed(1, DOG), step(1, BOB))
+    START = (given(OR), supposed(1, CAT), clearly(1, BOB), supposed(1, DOG), clearly(1, BOB))
 
     def test_two_boxes(self):
         self.yes(*self.START, (0, BOB, ("cases", 1, 2, 4)))
-        self.yes(*self.START, step(0, CAT), (0, BOB, ("cases", 1, 2, 4)))
-        self.yes(given(OR), supposed(1, DOG), step(1, BOB), supposed(1, CAT), step(1, BOB), (0, BOB, ("cases", 1, 4, 2)))
-        self.yes(given(OR), supposed(1, CAT), step(1, BOB), step(0, CAT), supposed(1, DOG), step(1, BOB), (0, BOB, ("cases", 1, 2, 5)))
+        self.yes(*self.START, clearly(0, CAT), (0, BOB, ("cases", 1, 2, 4)))
+        self.yes(given(OR), supposed(1, DOG), clearly(1, BOB), supposed(1, CAT), clearly(1, BOB), (0, BOB, ("cases", 1, 4, 2)))
+        self.yes(given(OR), supposed(1, CAT), clearly(1, BOB), clearly(0, CAT), supposed(1, DOG), clearly(1, BOB), (0, BOB, ("cases", 1, 2, 5)))
 
     def test_one_box_told_twice(self):
-        start = (given(("or", CAT, CAT)), supposed(1, CAT), step(1, BOB))
+        start = (given(("or", CAT, CAT)), supposed(1, CAT), clearly(1, BOB))
         self.yes(*start, (0, BOB, ("cases", 1, 2, 2)))
         self.no(given(OR), *start[1:], (0, BOB, ("cases", 1, 2, 2)))
 
@@ -213,19 +200,19 @@ class Cases(Asking):
         for form in (("and", CAT, DOG), ("if", CAT, DOG), ("or", CAT, BOB), ("or", BOB, DOG), ("not", OR), CAT, FALSE):
             self.no(given(form), *self.START[1:], (0, BOB, ("cases", 1, 2, 4)))
         self.no(
-            supposed(1, OR), step(0, BOB), supposed(1, CAT), step(1, BOB), supposed(1, DOG), step(1, BOB), (0, BOB, ("cases", 1, 3, 5)))
-        self.no(supposed(1, CAT), step(1, BOB), supposed(1, DOG), step(1, BOB), (0, BOB, ("cases", 6, 1, 3)), step(0, OR), k=5)
+            supposed(1, OR), clearly(0, BOB), supposed(1, CAT), clearly(1, BOB), supposed(1, DOG), clearly(1, BOB), (0, BOB, ("cases", 1, 3, 5)))
+        self.no(supposed(1, CAT), clearly(1, BOB), supposed(1, DOG), clearly(1, BOB), (0, BOB, ("cases", 6, 1, 3)), clearly(0, OR), k=5)
 
     def test_each_box(self):
         line = (0, BOB, ("cases", 1, 2, 4))
-        self.no(given(OR), supposed(1, CAT), step(1, DOG), supposed(1, DOG), step(1, BOB), line)
-        self.no(given(OR), supposed(1, CAT), step(1, BOB), supposed(1, DOG), step(1, DOG), line)
+        self.no(given(OR), supposed(1, CAT), clearly(1, DOG), supposed(1, DOG), clearly(1, BOB), line)
+        self.no(given(OR), supposed(1, CAT), clearly(1, BOB), supposed(1, DOG), clearly(1, DOG), line)
         self.no(*self.START, (0, DOG, ("cases", 1, 2, 4)))
-        self.no(given(OR), supposed(1, CAT), step(1, BOB), supposed(2, DOG), step(2, BOB), line)
-        self.no(given(OR), (1, CAT, ("called", "Zed", 1)), step(1, BOB), supposed(1, DOG), step(1, BOB), line)
-        self.no(given(OR), supposed(1, CAT), step(1, BOB), (1, DOG, ("any", "Zed")), step(1, BOB), line)
-        self.no(given(OR), supposed(1, CAT), step(1, BOB), supposed(1, DOG), step(1, BOB), (1, BOB, ("cases", 1, 2, 4)))
-        self.no(given(OR), supposed(1, CAT), supposed(2, BOB), supposed(1, DOG), step(1, BOB), line)
+        self.no(given(OR), supposed(1, CAT), clearly(1, BOB), supposed(2, DOG), clearly(2, BOB), line)
+        self.no(given(OR), (1, CAT, ("called", "Zed", 1)), clearly(1, BOB), supposed(1, DOG), clearly(1, BOB), line)
+        self.no(given(OR), supposed(1, CAT), clearly(1, BOB), (1, DOG, ("any", "Zed")), clearly(1, BOB), line)
+        self.no(given(OR), supposed(1, CAT), clearly(1, BOB), supposed(1, DOG), clearly(1, BOB), (1, BOB, ("cases", 1, 2, 4)))
+        self.no(given(OR), supposed(1, CAT), supposed(2, BOB), supposed(1, DOG), clearly(1, BOB), line)
 
 
 def random_lines(chance):
@@ -245,7 +232,7 @@ def random_lines(chance):
             ("again", chance.choice((CAT, FALSE))), ("soif", ("if", lines[i - 1][1], told)), ("not", ("not", lines[i - 1][1])), ("contrary", CAT), ("cases", told),
             ("cases", CAT), ("contrary", CAT), ("forsome", told), ("again", chance.choice(forms))))
         lines.append((level, form, (word, 1, i, n) if word == "cases" else (word, i)))
-    return tuple(lines) + (step(0, CAT),)
+    return tuple(lines) + (clearly(0, CAT),)
 
 
 class ByChance(unittest.TestCase):

@@ -171,6 +171,8 @@ class SingleWords(Asking):
         self.no("two", cats, ann, a("Bob", "dog"), ("not", ("same", "Ann", "Bob")))
         self.no("two", cats, ann, a("Zed", "cat"), ("not", ("same", "Ann", "Bob")))
         self.yes("two", cats, ann, ann, ("not", ("same", "Ann", "Ann")))
+        for one, other in (("x", "Bob"), ("Ann", "x"), ("x", "y")):
+            self.no("two", cats, a(one, "cat"), a(other, "cat"), ("not", ("same", one, other)))
         self.no("two", least(of("cat"), of(more=1)), ann, bob, ("not", ("same", "Ann", "Bob")))
         self.no("two", least(of("cat"), of(more=3)), ann, bob, ("not", ("same", "Ann", "Bob")))
 

@@ -209,6 +209,14 @@ class Put(Asking):
         for form in bends(old):
             self.no("put", form, ANN_IS_BOB, old)
 
+    def test_letters_that_are_bound(self):
+        # Such a form isn't closed; what is told of a free letter is told of no other one that is written so, too.
+        same = ("same", "x", "Ann")
+        self.yes("put", CAT, same, ("is", "x", "cat"))
+        self.no("put", ("every", "x", CAT), same, ("every", "x", ("is", "x", "cat")))
+        self.no("put", ("every", "x", ("is", "x", "cat")), ("same", "Ann", "x"), ("every", "x", CAT))
+        self.yes("put", ("every", "y", seen("Ann", "y")), same, ("every", "y", seen("x", "y")))
+
     def test_deep(self):
         for deep in (6, 7, 9, 12):
             form = seen("Ann", "Ann")
