@@ -1,6 +1,6 @@
 """Lines, their openers and boxes. A line is (level, form, reason); lines are numbered from 1."""
 
-from linecourt.reasons import OPENERS
+from linecourt.reasons import OPENERS, moved
 
 
 def is_opener(line):
@@ -68,3 +68,11 @@ def told_by(lines, i, k):
     if not all(other in own for other in openers_at(lines, i)[:-1]):
         return None
     return box[1]
+
+
+def picked(lines, order):
+    """The lines of some numbers, in their order, renumbered: they name none but such lines."""
+    numbers = [0] * len(lines)
+    for at, old in enumerate(order):
+        numbers[old - 1] = at + 1
+    return tuple([(*lines[old - 1][:2], moved(lines[old - 1][2], numbers)) for old in order])

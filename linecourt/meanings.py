@@ -1,7 +1,7 @@
 """Meanings put in place: in forms, in arguments, and in worlds."""
 
 from linecourt.forms import SHAPES, put_for
-from linecourt.truths import things_of
+from linecourt.truths import Sight, is_of_kind, scopes_of_meanings
 
 
 def by_kind(meanings):
@@ -60,7 +60,8 @@ def line_in_place(told, found, line):
 def world_with(world, meanings):
     """The world with the meanings' kinds put in, sorted among its kinds."""
     many, names, kinds, doings = world
-    for kind, x, form in meanings:
-        things = things_of((many, names, kinds, doings), x, form)
-        kinds = tuple(sorted([*kinds, (kind, things)]))
-    return (many, names, kinds, doings)
+    sight = Sight(world, scopes_of_meanings(meanings))
+    told = list(kinds)
+    for meaning in meanings:
+        told.append((meaning[0], tuple([thing for thing in range(many) if is_of_kind(sight, thing, meaning[0])])))
+    return (many, names, tuple(sorted(told)), doings)

@@ -28,3 +28,16 @@ def power(base, times):
         if left > 0:
             square = square * square
     return told
+
+
+def powers_up_to(most, times):
+    """The numbers from 1 to the most, each so many times with itself, all together; the most from 0 on."""
+    # By differences: a great number is not gone through one by one.
+    row = [power(base, times) for base in range(1, times + 2)]
+    told = 0
+    ways = most
+    for at in range(times + 1):
+        told += row[0] * ways
+        row = [other - one for one, other in zip(row, row[1:])]
+        ways = ways * (most - at - 1) // (at + 2)
+    return told

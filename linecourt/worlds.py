@@ -1,7 +1,7 @@
 """Worlds: some things, which of them the names are, of which kinds they are, and what they do."""
 
 from linecourt.forms import is_vocabulary
-from linecourt.wholes import is_whole, is_whole_from, power, rises
+from linecourt.wholes import is_whole, is_whole_from, power, powers_up_to, rises
 
 MOST_WORLDS = 4096
 # 2 to the power of this is MOST_WORLDS.
@@ -64,7 +64,16 @@ def how_many(vocabulary, size):
     """The number of the worlds of a vocabulary of a size."""
     if size < 1:
         return 0
-    return power(size, len(vocabulary[0])) * power(2, doublings(vocabulary, size))
+    return power(size, len(vocabulary[0])) << doublings(vocabulary, size)
+
+
+def how_many_up_to(vocabulary, size):
+    """The number of the worlds of a vocabulary of all sizes up to one."""
+    if size < 1:
+        return 0
+    if not vocabulary[1] and not vocabulary[2]:
+        return powers_up_to(size, len(vocabulary[0]))
+    return sum(how_many(vocabulary, one) for one in range(1, size + 1))
 
 
 def rows_of(things):

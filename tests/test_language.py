@@ -35,7 +35,7 @@ BARRED_ATTRIBUTES = set(
 )
 BARRED_NODES = (
     ast.Global, ast.AsyncFunctionDef, ast.AsyncFor, ast.AsyncWith, ast.Await, ast.Import, ast.Div, ast.Lambda,
-    ast.Yield, ast.YieldFrom, ast.NamedExpr, ast.Try, ast.With, ast.Match, ast.Delete, ast.Nonlocal, ast.AnnAssign,
+    ast.Yield, ast.YieldFrom, ast.NamedExpr, ast.With, ast.Match, ast.Delete, ast.Nonlocal, ast.AnnAssign,
 )
 ON_THE_SPOT = {"zip", "enumerate", "reversed", "range"}
 TAKERS = {"list", "tuple", "dict", "sorted", "sum", "any", "all", "enumerate", "zip", "min", "max"}
@@ -213,6 +213,17 @@ class Language(unittest.TestCase):
                 spot = isinstance(around, (ast.For, ast.comprehension)) and around.iter is node
                 if not spot and called(around) not in TAKERS:
                     self.fail_at(path, node, "L23")
+
+    def test_errors(self):
+        refusals = {node.name for path, node in nodes(ast.ClassDef) if path.stem == "errors"}
+        for path, node in nodes(ast.Try):
+            self.assertEqual((node.orelse, node.finalbody), ([], []), path.name)
+            for handler in node.handlers:
+                self.assertIsNone(handler.name, path.name)
+                self.assertIn(getattr(handler.type, "id", None), refusals, path.name)
+        for path, node in nodes(ast.Raise):
+            self.assertIn(called(node.exc), refusals, path.name)
+            self.assertIsNone(node.cause, path.name)
 
     def test_generator_expressions_and_sets(self):
         for path, node in nodes(ast.GeneratorExp):

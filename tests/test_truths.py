@@ -247,6 +247,34 @@ class TwentyThings(unittest.TestCase):
             self.check(form, naive(self.world, form, {}))
 
 
+class ThingsThatNothingTellsApart(unittest.TestCase):
+    """Of these one is tried alone: the same must come as of all."""
+
+    def test_by_going_through_all_things(self):
+        chance = random.Random(70)
+        told = {True: 0, False: 0}
+        for _ in range(600):
+            many = chance.choice((5, 6, 7))
+            world = random_world(chance, many, chance.choice((0, 0, 0.1, 0.3)))
+            form = random_form(chance, 5, ())
+            self.assertEqual(holds(world, form), naive(world, form, {}), (world, form))
+            told[holds(world, form)] += 1
+        self.assertGreater(min(told.values()), 100)
+
+    def test_how_many_there_are(self):
+        letters = ("x", "y", "z", "u", "v", "w", "x1", "x2")
+        for many in range(1, 9):
+            form = TRUE
+            for at, one in enumerate(letters[:many]):
+                for other in letters[:at]:
+                    form = ("and", form, ("not", ("same", one, other)))
+            for letter in letters[:many]:
+                form = ("some", letter, form)
+            for size in (1, 2, 3, 4, 5, 6, 7, 8, 60, 10 ** 12 - 1):
+                world = (size, (("Ann", 0), ("Tom", size - 1)), (("cat", ()), ("dog", ())), (("likes", ()), ("sees", ())))
+                self.assertIs(holds(world, form), size >= many)
+
+
 class Counting(unittest.TestCase):
     def test_sums(self):
         for total, wanted in (

@@ -3,7 +3,7 @@
 import itertools
 import unittest
 
-from linecourt.worlds import how_many, is_world, worlds_of
+from linecourt.worlds import how_many, how_many_up_to, is_world, worlds_of
 from tests.samples import ODD_TEXTS, ODD_THINGS
 
 FULL = (("Ann", "Bob"), ("cat", "dog"), ("likes", "sees"))
@@ -204,6 +204,11 @@ class AllWorlds(unittest.TestCase):
             self.assertIs(type(told), int)
         self.assertEqual(how_many((("A", "B"), (), ()), 10 ** 12 - 1), (10 ** 12 - 1) ** 2)
         self.assertEqual(how_many(((), (), ()), 10 ** 12 - 1), 1)
+
+    def test_how_many_up_to(self):
+        for vocabulary in SMALL_VOCABULARIES + (FULL, (("A", "B", "C", "D", "E", "F"), (), ())):
+            for size in (-1, 0, 1, 2, 3, 5, 10, 40):
+                self.assertEqual(how_many_up_to(vocabulary, size), sum(number(vocabulary, one) for one in range(1, size + 1)))
 
     def test_there_is_one_thing_at_least(self):
         for vocabulary in (((), (), ()), ((), ("cat",), ()), FULL):
