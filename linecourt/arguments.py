@@ -1,7 +1,7 @@
 """Arguments: (vocabulary, meanings, lines). What is one, and what can be read off its lines."""
 
 from linecourt.forms import counted_kinds, free_letters, is_form, is_of, is_vocabulary, with_words
-from linecourt.lines import all_openers, is_opener, openers_at
+from linecourt.lines import all_openers, is_given_line, is_opener, openers_at
 from linecourt.meaningforms import are_meanings, catches_meaning
 from linecourt.reasons import NAMING, is_reason
 from linecourt.wholes import is_whole
@@ -14,12 +14,17 @@ def is_line(thing, last):
     return is_whole(thing[0]) and is_form(thing[1]) and is_reason(thing[2], last)
 
 
+def level_fits(ahead, line):
+    """Whether a line has a level that it may have, that of the line ahead being told."""
+    least, most = (1, ahead + 1) if is_opener(line) else (0, ahead)
+    return least <= line[0] <= most
+
+
 def levels_fit(lines):
     """Whether each line has a level that it may have behind the line ahead, the last one 0."""
     ahead = 0
     for line in lines:
-        least, most = (1, ahead + 1) if is_opener(line) else (0, ahead)
-        if not least <= line[0] <= most:
+        if not level_fits(ahead, line):
             return False
         ahead = line[0]
     return ahead == 0
@@ -86,4 +91,4 @@ def names_at(argument, k):
 def shown(argument):
     """What an argument shows: the forms of its given lines, in order, and that of its last line."""
     lines = argument[2]
-    return (tuple([line[1] for line in lines if line[2][0] == "given"]), lines[-1][1])
+    return (tuple([line[1] for line in lines if is_given_line(line)]), lines[-1][1])

@@ -3,7 +3,7 @@
 from linecourt.arguments import is_argument, names_at, shown
 from linecourt.boxrules import BOX_RULES, boxed
 from linecourt.counts import COUNT_RULES, counted
-from linecourt.lines import all_openers, is_open
+from linecourt.lines import all_openers, is_given_line, is_open
 from linecourt.meanings import alike
 from linecourt.reasons import numbers_in
 from linecourt.rules import follows
@@ -68,7 +68,7 @@ def is_of_earlier(case, form, forms, name):
 def is_given(case, k):
     """Whether line k may be given: at level 0, all lines ahead being given, too."""
     lines = case.argument[2]
-    return lines[k - 1][0] == 0 and all(line[2][0] == "given" for line in lines[:k])
+    return lines[k - 1][0] == 0 and all(is_given_line(line) for line in lines[:k])
 
 
 def is_right_by(case, k, reason):

@@ -131,6 +131,19 @@ def put_at(place, piece, x, name):
     return piece
 
 
+def called_anew(form, new):
+    """The form with other names in the place of those that are to be called anew."""
+    put = [called_anew_at(place, piece, new) for place, piece in zip(SHAPES[form[0]], form[1:])]
+    return (form[0], *put)
+
+
+def called_anew_at(place, piece, new):
+    """What stands at a place of a form, with other names."""
+    if place == "F":
+        return called_anew(piece, new)
+    return new.get(piece, piece) if place == "t" else piece
+
+
 def is_case(whole, word, name, case):
     """Whether a form is every x F (or some x F, by the word), and the case of it F with the name for x."""
     return whole[0] == word and is_name(name) and put_for(whole[2], whole[1], name) == case

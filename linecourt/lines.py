@@ -8,6 +8,11 @@ def is_opener(line):
     return line[2][0] in OPENERS
 
 
+def is_given_line(line):
+    """Whether a line is given."""
+    return line[2][0] == "given"
+
+
 def has_opener(lines, i):
     """Whether there is a line of a number, and it opens a box."""
     return 1 <= i <= len(lines) and is_opener(lines[i - 1])

@@ -114,3 +114,9 @@ def moved(reason, numbers):
     """The reason, the lines that it names having new numbers: that of line 1 first, and so on."""
     put = [moved_at(place, piece, numbers) for place, piece in zip(REASONS[reason[0]], reason[1:])]
     return (reason[0], *put)
+
+
+def with_new_names(reason, new):
+    """The reason with other names in the place of those that are to be called anew."""
+    put = [new.get(piece, piece) if place == "N" else piece for place, piece in zip(REASONS[reason[0]], reason[1:])]
+    return (reason[0], *put)

@@ -106,9 +106,14 @@ def level_forms(level, vocabulary):
 
 def readings(vocabulary, text):
     """The closed forms of a vocabulary that a text can be read to, each once, by their texts."""
+    return readings_within(vocabulary, (), text)
+
+
+def readings_within(vocabulary, bound, text):
+    """The forms that a text can be read to where some letters are bound around it, each once, by their texts."""
     if not isinstance(text, str):
         return ()
-    levels = [Level(())]
+    levels = [Level(bound)]
     for word in text.split(" "):
         if word == "(":
             levels.append(Level(bound_within(levels[-1])))
