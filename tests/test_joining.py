@@ -152,6 +152,29 @@ class Joined(Asking):
             told = self.join(told, argument(*lines), 1)
         self.assertEqual(len(set(opened(told[2]))), 14)
 
+    def test_new_names_are_unlike_all_others(self):
+        # Each name of one great letter stands somewhere: in the vocabulary, in the one, or in the other.
+        letters = tuple("ABCDEFGHIJKLMNOPQRSTUVWXYZ")
+        vocabulary = (letters[:6], ("cat",), ())
+
+        def walk(names):
+            lines = [given(("is", "A", "cat"))]
+            for name in names:
+                at = len(lines) + 1
+                lines += [(1, ("same", name, name), ("any", name)), (0, ("every", "x", ("same", "x", "x")), ("forany", at))]
+            return argument(*lines, (0, ("is", "A", "cat"), ("again", 1)), vocabulary=vocabulary)
+
+        one, other = walk(letters[6:17]), walk(letters[16:])
+        told = joined(one, other, 1)
+        self.assertIs(lets_by(told), True)
+        names = opened(told[2])
+        self.assertEqual(names[:11] + names[12:], list(letters[6:17] + letters[17:]))
+        self.assertNotIn(names[11], letters)
+        # With more than one to be called anew these are unlike each other, too.
+        told = joined(one, one, 1)
+        self.assertIs(lets_by(told), True)
+        self.assertEqual(len(set(opened(told[2]) + list(letters[:6]))), 28)
+
     def test_meanings(self):
         pet = ("is", "Ann", "pet")
         one = argument(given(EITHER), (0, pet, ("meaning", 1)), meanings=MEANINGS)

@@ -105,6 +105,12 @@ class NoOrders(Asking):
                 (1, 2, 3, 4, 10 ** 12 - 1, 6), (0, 1, 2, 3, 4, 5, 6)):
             self.no_order(order)
 
+    def test_a_number_twice_though_it_would_be_let_by(self):
+        argument = (SMALL, (), (given(CAT), (0, EITHER, ("orleft", 1)), (0, EITHER, ("orleft", 1)), (0, CAT, ("again", 1))))
+        self.fine(argument, (1, 3, 2, 4))
+        for order in ((1, 1, 2, 4), (1, 1, 1, 4), (1, 2, 2, 4), (1, 3, 3, 4), (1, 2, 4, 4), (1, 2, 2, 3, 4), (1, 2, 4), (1, 4)):
+            self.no_order(order, argument)
+
     def test_the_last_one_not_last(self):
         for order in ((1, 2, 3, 4, 6, 5), (1, 2, 3, 6, 5, 4), (6, 5, 4, 3, 2, 1)):
             self.no_order(order)

@@ -46,6 +46,18 @@ class Asking(unittest.TestCase):
         with self.assertRaises(NoTurn):
             out_of_contrary(argument)
 
+    def look(self, argument):
+        """Either it is refused, or it is what the told argument, let by, is turned to."""
+        if not is_argument(argument):
+            return None
+        try:
+            told = out_of_contrary(argument)
+        except NoTurn:
+            return False
+        self.assertIs(lets_by(told), True)
+        self.assertEqual(slow_to_contrary(told), argument)
+        return True
+
 
 class Turned(Asking):
     def test_the_lines(self):
@@ -165,20 +177,8 @@ class NoTurns(Asking):
                     if other != lines[at]:
                         self.look(argument[:2] + (lines[:at] + (other,) + lines[at + 1:],))
 
-    def look(self, argument):
-        """Either it is refused, or it is what the told argument, let by, is turned to."""
-        if not is_argument(argument):
-            return None
-        try:
-            told = out_of_contrary(argument)
-        except NoTurn:
-            return False
-        self.assertIs(lets_by(told), True)
-        self.assertEqual(slow_to_contrary(told), argument)
-        return True
 
-
-class ByChance(NoTurns):
+class ByChance(Asking):
     def test_by_chance(self):
         chance = random.Random(34)
         told = {None: 0, True: 0, False: 0}
