@@ -13,6 +13,11 @@ def is_given_line(line):
     return line[2][0] == "given"
 
 
+def how_many_given(lines):
+    """How many lines are given."""
+    return len([line for line in lines if is_given_line(line)])
+
+
 def has_opener(lines, i):
     """Whether there is a line of a number, and it opens a box."""
     return 1 <= i <= len(lines) and is_opener(lines[i - 1])

@@ -2,7 +2,7 @@
 
 from linecourt.checker import lets_by
 from linecourt.errors import NoOrder
-from linecourt.lines import is_given_line, picked
+from linecourt.lines import how_many_given, is_given_line, picked
 from linecourt.reasons import are_line_numbers
 
 
@@ -11,8 +11,7 @@ def is_order(lines, order):
     last = len(lines)
     if not are_line_numbers(order, last) or len(order) != last or len(set(order)) != last or order[-1] != last:
         return False
-    first = len([line for line in lines if is_given_line(line)])
-    return all(is_given_line(lines[number - 1]) for number in order[:first])
+    return all(is_given_line(lines[number - 1]) for number in order[:how_many_given(lines)])
 
 
 def renumbered(argument, order):

@@ -3,13 +3,8 @@
 from linecourt.checker import lets_by
 from linecourt.errors import NoTurn
 from linecourt.forms import FALSE
-from linecourt.lines import is_given_line
+from linecourt.lines import how_many_given
 from linecourt.reasons import moved
-
-
-def how_many_given(lines):
-    """How many lines are given."""
-    return len([line for line in lines if is_given_line(line)])
 
 
 def shifted(lines, more, numbers):
